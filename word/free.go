@@ -3,9 +3,9 @@ package word
 import (
 	"cmp"
 	"slices"
-	"sync"
 
 	"larch/api"
+	"larch/together"
 )
 
 // Gather: threads put their numbers to one word, all at once; what it holds in the end.
@@ -17,7 +17,7 @@ func Gather(kind, op int, start uint64, lists [][]uint64) (uint64, api.Errno) {
 		return 0, api.ErrKind
 	}
 	w := newWord(kind, start)
-	together(len(lists), func(thread int) {
+	together.Run(len(lists), func(thread int) {
 		for _, n := range lists[thread] {
 			put(w, kind, op, n)
 		}
@@ -32,7 +32,7 @@ func Swaps(kind int, start uint64, lists [][]uint64) ([]uint64, api.Errno) {
 	}
 	w := newWord(kind, start)
 	got := make([][]uint64, len(lists))
-	together(len(lists), func(thread int) {
+	together.Run(len(lists), func(thread int) {
 		mine := make([]uint64, len(lists[thread]))
 		for i, n := range lists[thread] {
 			mine[i] = w.do(Act{Kind: api.Swap, A: n}).Val
@@ -51,7 +51,7 @@ func Tickets(kind int, start uint64, counts []int) ([]uint64, bool, api.Errno) {
 	}
 	w := newWord(kind, start)
 	got := make([][]uint64, len(counts))
-	together(len(counts), func(thread int) {
+	together.Run(len(counts), func(thread int) {
 		mine := make([]uint64, counts[thread])
 		for i := range mine {
 			mine[i] = w.do(Act{Kind: api.Add, A: 1}).Val
@@ -84,7 +84,7 @@ func Race(kind int, start uint64, news []uint64) (int, bool, api.Errno) {
 	}
 	w := newWord(kind, start)
 	won := make([]bool, len(news))
-	together(len(news), func(thread int) {
+	together.Run(len(news), func(thread int) {
 		won[thread] = w.do(Act{Kind: api.Cas, A: start, B: news[thread]}).Ok
 	})
 	left := load(w)
@@ -96,19 +96,6 @@ func Race(kind int, start uint64, news []uint64) (int, bool, api.Errno) {
 		}
 	}
 	return wins, held, api.OK
-}
-
-// together runs so many threads, all at once, and answers when all have ended.
-func together(threads int, run func(thread int)) {
-	var all sync.WaitGroup
-	all.Add(threads)
-	for thread := range threads {
-		go func() {
-			defer all.Done()
-			run(thread)
-		}()
-	}
-	all.Wait()
 }
 
 // canGather: is there such an op for words of the kind?
