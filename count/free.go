@@ -77,24 +77,18 @@ func sortOf(kind int) int {
 	return kind
 }
 
-// out is what an operation of a free thread answered.
-type out struct {
-	val int
-	ok  bool
-}
-
 // runFree: all threads at once; by thread, what its operations answered. The compare-and-swap of a Locked succeeds at once: whoever would have to wait for it sleeps ahead of it instead of trying again and again.
 func runFree(nums []cell.Num, scripts [][]Op) [][]out {
 	outs := make([][]out, len(scripts))
 	doors := make([]sync.Mutex, len(nums))
 	together.Run(len(scripts), func(thread int) {
 		mine := make([]out, len(scripts[thread]))
-		h := hand{nums: nums, holds: none}
+		h := newHand(nums)
 		for i, op := range scripts[thread] {
 			if op.Kind == Locked {
 				doors[op.At].Lock()
 			}
-			mine[i].val, mine[i].ok = h.do(op)
+			mine[i] = h.do(nil, op)
 			if op.Kind == Locked {
 				doors[op.At].Unlock()
 			}

@@ -2,7 +2,7 @@ package count
 
 import "larch/cell"
 
-// none stands for no lock, no thread, no pick.
+// none stands for no lock, no thread.
 const none = -1
 
 // What a lock's cell holds.
@@ -18,23 +18,34 @@ type hand struct {
 	holds int       // the cell of the lock that it holds, or none
 }
 
-// do: the accesses of an operation, and what it answers.
-func (h *hand) do(op Op) (int, bool) {
+func newHand(nums []cell.Num) *hand {
+	return &hand{nums: nums, holds: none}
+}
+
+// out is what an operation answered.
+type out struct {
+	val int
+	ok  bool
+}
+
+// do: the accesses of an operation, through the gate, and what it answers.
+func (h *hand) do(g cell.Gate, op Op) out {
+	h.gate = g
 	switch op.Kind {
 	case Inc:
-		return h.inc(&h.nums[op.At], op.A), true
+		return out{h.inc(&h.nums[op.At], op.A), true}
 	case Plus:
-		return h.nums[op.At].Add(h.gate, op.A), true
+		return out{h.nums[op.At].Add(g, op.A), true}
 	case Top:
 		return h.top(&h.nums[op.At], op.A)
 	case Ticket:
-		return h.nums[op.At].Add(h.gate, 1), true
+		return out{h.nums[op.At].Add(g, 1), true}
 	case Take:
 		return h.take(&h.nums[op.At])
 	case Sum:
-		return h.sum(), true
+		return out{h.sum(), true}
 	}
-	return h.locked(op.At, op.A), true
+	return out{h.locked(op.At, op.A), true}
 }
 
 func (h *hand) inc(c *cell.Num, more int) int {
@@ -46,26 +57,26 @@ func (h *hand) inc(c *cell.Num, more int) int {
 	}
 }
 
-func (h *hand) top(c *cell.Num, least int) (int, bool) {
+func (h *hand) top(c *cell.Num, least int) out {
 	for {
 		v := c.Load(h.gate)
 		if v >= least {
-			return v, false
+			return out{v, false}
 		}
 		if c.Cas(h.gate, v, least) {
-			return least, true
+			return out{least, true}
 		}
 	}
 }
 
-func (h *hand) take(c *cell.Num) (int, bool) {
+func (h *hand) take(c *cell.Num) out {
 	for {
 		v := c.Load(h.gate)
 		if v <= 0 {
-			return v, false
+			return out{v, false}
 		}
 		if c.Cas(h.gate, v, v-1) {
-			return v - 1, true
+			return out{v - 1, true}
 		}
 	}
 }
