@@ -64,7 +64,7 @@ func (r row) look(looks int) [][]int {
 	return snaps
 }
 
-// isChain: if any two are one nowhere below the other, then so are neighbours in the order of lists; and what holds of neighbours holds of all.
+// isChain: where of any two one is nowhere above the other, neighbours in the order of lists don't fall; and where no neighbours fall, that holds of any two. So not all pairs need to be looked at.
 func isChain(snaps [][]int) bool {
 	sorted := slices.Clone(snaps)
 	slices.SortFunc(sorted, slices.Compare)
