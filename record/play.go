@@ -30,30 +30,30 @@ func Play(w World, acts []Act) ([]int, World, []int, api.Errno) {
 	if e := refusal(w, acts); e != api.OK {
 		return nil, World{}, nil, e
 	}
-	t := thingsOf(w)
+	t, _ := Make(w)
 	tape := cell.NewTape()
 	answers := make([]int, len(acts))
 	for i, a := range acts {
 		if a.Kind < State {
-			answers[i] = t.doRecord(tape, t.records[a.At], a)
+			answers[i] = t.doRecord(tape, t.Records[a.At], a)
 		} else {
-			answers[i] = doScx(tape, t.scxs[a.At], a.Kind)
+			answers[i] = doScx(tape, t.Scxs[a.At], a.Kind)
 		}
 	}
-	return answers, t.world(), tape.Kinds(), api.OK
+	return answers, t.World(), tape.Kinds(), api.OK
 }
 
 // doRecord: an act on a record.
-func (t things) doRecord(g cell.Gate, r *Record[blank], a Act) int {
+func (t Things) doRecord(g cell.Gate, r *Record[int], a Act) int {
 	switch a.Kind {
 	case Get:
-		return t.recordNumber(r.Get(g, a.A))
+		return Number(r.Get(g, a.A))
 	case Swing:
-		return oneIf(r.Swing(g, a.A, t.record(a.B), t.record(a.C)))
+		return oneIf(r.Swing(g, a.A, t.Record(a.B), t.Record(a.C)))
 	case Info:
 		return t.infoNumber(r.Info(g))
 	case Freeze:
-		return oneIf(r.Freeze(g, t.info(a.At, a.B), t.scxs[a.C]))
+		return oneIf(r.Freeze(g, t.Info(a.At, a.B), t.Scxs[a.C]))
 	case Marked:
 		return oneIf(r.Marked(g))
 	case Mark:
@@ -63,7 +63,7 @@ func (t things) doRecord(g cell.Gate, r *Record[blank], a Act) int {
 }
 
 // doScx: an act on an SCX-record.
-func doScx(g cell.Gate, s *Scx[blank], kind int) int {
+func doScx(g cell.Gate, s *Scx[int], kind int) int {
 	switch kind {
 	case State:
 		return s.State(g)

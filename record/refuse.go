@@ -8,16 +8,27 @@ import (
 
 // refusal: what is too big, then a world that isn't in form, then the first act that is refused.
 func refusal(w World, acts []Act) api.Errno {
-	if isBig(w) || len(acts) > api.MaxOps {
+	if len(acts) > api.MaxOps {
 		return api.ErrBig
 	}
-	if !isInForm(w) {
-		return api.ErrForm
+	if e := Check(w); e != api.OK {
+		return e
 	}
 	for _, a := range acts {
 		if e := actError(w, a); e != api.OK {
 			return e
 		}
+	}
+	return api.OK
+}
+
+// Check: the error of a world: too big, or not in form.
+func Check(w World) api.Errno {
+	if isBig(w) {
+		return api.ErrBig
+	}
+	if !isInForm(w) {
+		return api.ErrForm
 	}
 	return api.OK
 }
