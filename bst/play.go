@@ -17,7 +17,7 @@ type Played struct {
 
 // Play: a worker for each list of operations.
 func Play(start []api.Pair, scripts [][]api.Op, picks []int) (Played, api.Errno) {
-	if e := edit.Check(scripts...); e != api.OK {
+	if e := edit.Kinds(api.Delete, scripts...); e != api.OK {
 		return Played{}, e
 	}
 	if len(start) > api.MaxOps {
@@ -54,7 +54,7 @@ func Kinds(start []api.Pair, ops []api.Op) ([]int, api.Errno) {
 
 // refusal: of one thread's operations.
 func refusal(start []api.Pair, ops []api.Op) api.Errno {
-	if e := edit.Check(ops); e != api.OK {
+	if e := edit.Kinds(api.Delete, ops); e != api.OK {
 		return e
 	}
 	if len(start) > api.MaxOps || len(ops) > api.MaxOps {

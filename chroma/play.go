@@ -1,20 +1,11 @@
 package chroma
 
 import (
-	"slices"
-
 	"larch/api"
 	"larch/baton"
 	"larch/cell"
 	"larch/edit"
 	"larch/node"
-	"larch/seq"
-)
-
-// What a table that is handed in may have.
-const (
-	mostNodes  = 10000
-	mostWeight = 1000
 )
 
 // Played is what a run of operations did.
@@ -30,34 +21,12 @@ func Check(t []api.Node, scripts [][]api.Op, picks []int) api.Errno {
 	if e := refusal(t, scripts, picks); e != api.OK {
 		return e
 	}
-	return size(t)
+	return edit.Size(t)
 }
 
-// refusal: all that is asked ahead of the table's size.
 func refusal(t []api.Node, scripts [][]api.Op, picks []int) api.Errno {
-	if len(scripts) < 1 || len(scripts) > api.MaxThreads {
-		return api.ErrArg
-	}
-	if len(picks) > api.MaxPicks || slices.ContainsFunc(scripts, isTooLong) {
-		return api.ErrBig
-	}
-	if e := seq.Check(t); e != api.OK {
-		return e
-	}
-	return edit.Check(scripts...)
+	return edit.Refusal(t, scripts, picks, api.Delete)
 }
-
-func isTooLong(script []api.Op) bool { return len(script) > api.MaxOps }
-
-// size: ErrBig, if the table is one that other layers take, and this one doesn't.
-func size(t []api.Node) api.Errno {
-	if len(t) > mostNodes || slices.ContainsFunc(t, isTooHeavy) {
-		return api.ErrBig
-	}
-	return api.OK
-}
-
-func isTooHeavy(n api.Node) bool { return n.Weight > mostWeight }
 
 // Play: a worker for each list of operations, on the tree of a table.
 func Play(t []api.Node, scripts [][]api.Op, picks []int) (Played, api.Errno) {
@@ -94,7 +63,7 @@ func finishError(t []api.Node, scripts [][]api.Op, picks []int, most int) api.Er
 	if most > api.MaxPicks-len(picks) {
 		return api.ErrBig
 	}
-	return size(t)
+	return edit.Size(t)
 }
 
 // made: the entry of the table's tree; the errors of one thread's operations.

@@ -144,8 +144,8 @@ func TestOps(t *testing.T) { // P21.1, P22.1
 		if kind < api.Get || kind > api.Delete {
 			want = api.ErrKind
 		}
-		if e := edit.Check(script, []api.Op{{Kind: api.Get}, {Kind: kind}}); e != want {
-			t.Errorf("Check of kind %d = %d", kind, e)
+		if e := edit.Kinds(api.Delete, script, []api.Op{{Kind: api.Get}, {Kind: kind}}); e != want {
+			t.Errorf("Kinds of kind %d = %d", kind, e)
 		}
 		if _, e := edit.Do(x, nil, api.Op{Kind: kind}); e != want {
 			t.Errorf("Do of kind %d = %d", kind, e)
@@ -253,5 +253,42 @@ func TestLinkTo(t *testing.T) { // P21.2, P22.3
 		if l, ok := k.LinkTo(n, c.key, c.child); ok != c.leads || ok && l.R != n || k.Hopeless() || len(tape.Kinds()) != 7 {
 			t.Errorf("key %d: %v, %v, kinds %v", c.key, l, ok, tape.Kinds())
 		}
+	}
+}
+
+// TestRefusal: what a game on a table refuses, and in which order.
+func TestRefusal(t *testing.T) { // P22.5, P23.3
+	fit, uneven, heavy := crowned("(2:1 (1:1000=0) (2:1000=0))"), crowned("(2:1 (1:1=0) (2:2=0))"), crowned("(2:1 (1:1001=0) (2:1001=0))")
+	get, ranged, none := []api.Op{{Kind: api.Get}}, []api.Op{{Kind: api.Range}}, []api.Op{{Kind: 10}}
+	for i, c := range []struct {
+		text    string
+		scripts [][]api.Op
+		picks   int
+		last    int
+		e, size api.Errno
+	}{
+		{fit, [][]api.Op{get}, api.MaxPicks, api.Delete, api.OK, api.OK},
+		{fit, [][]api.Op{ranged}, 0, api.Range, api.OK, api.OK},
+		{fit, [][]api.Op{get, ranged}, 0, api.Delete, api.ErrKind, api.OK},
+		{fit, [][]api.Op{get, none}, 0, api.Range, api.ErrKind, api.OK},
+		{heavy, [][]api.Op{get, none}, 0, api.Range, api.ErrKind, api.ErrBig},
+		{uneven, [][]api.Op{none}, 0, api.Range, api.ErrForm, api.OK},
+		{uneven, [][]api.Op{none}, api.MaxPicks + 1, api.Range, api.ErrBig, api.OK},
+		{uneven, [][]api.Op{nil, make([]api.Op, api.MaxOps+1)}, 0, api.Range, api.ErrBig, api.OK},
+		{fit, [][]api.Op{slices.Repeat(get, api.MaxOps)}, 0, api.Range, api.OK, api.OK},
+		{uneven, nil, api.MaxPicks + 1, api.Range, api.ErrArg, api.OK},
+		{fit, make([][]api.Op, api.MaxThreads), 0, api.Range, api.OK, api.OK},
+		{fit, make([][]api.Op, api.MaxThreads+1), 0, api.Range, api.ErrArg, api.OK},
+	} {
+		_, list := treeOf(t, c.text)
+		if e, size := edit.Refusal(list, c.scripts, make([]int, c.picks), c.last), edit.Size(list); e != c.e || size != c.size {
+			t.Errorf("row %d: %d, %d, want %d, %d", i, e, size, c.e, c.size)
+		}
+	}
+	if e := edit.Size(make([]api.Node, 10000)); e != api.OK {
+		t.Errorf("10000 nodes: %d", e)
+	}
+	if e := edit.Size(make([]api.Node, 10001)); e != api.ErrBig {
+		t.Errorf("10001 nodes: %d", e)
 	}
 }

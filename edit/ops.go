@@ -1,8 +1,6 @@
 package edit
 
 import (
-	"slices"
-
 	"larch/api"
 	"larch/cell"
 )
@@ -32,18 +30,6 @@ func Do(m Map, g cell.Gate, o api.Op) (api.Ret, api.Errno) {
 	}
 	return ret, api.OK
 }
-
-// Check: ErrKind, if one of the operations is none of the four.
-func Check(scripts ...[]api.Op) api.Errno {
-	for _, script := range scripts {
-		if slices.ContainsFunc(script, isNone) {
-			return api.ErrKind
-		}
-	}
-	return api.OK
-}
-
-func isNone(o api.Op) bool { return o.Kind < api.Get || o.Kind > api.Delete }
 
 // All: the operations one behind the other, without a gate; the answers.
 func All(m Map, ops []api.Op) []api.Ret {
