@@ -1,7 +1,9 @@
 package together_test
 
 import (
+	"runtime"
 	"slices"
+	"sync"
 	"testing"
 
 	"larch/together"
@@ -29,4 +31,22 @@ func TestRunRunsThemAllAtOnce(t *testing.T) {
 			<-met
 		}
 	})
+}
+
+// TestNobodyBeginsAheadOfTheOthersStart: none ends till all have counted, so whoever begins finds all of them.
+func TestNobodyBeginsAheadOfTheOthersStart(t *testing.T) {
+	const threads = 200
+	for range 50 {
+		found := make([]int, threads)
+		var counting sync.WaitGroup
+		counting.Add(threads)
+		together.Run(threads, func(thread int) {
+			found[thread] = runtime.NumGoroutine()
+			counting.Done()
+			counting.Wait()
+		})
+		if least := slices.Min(found); least < threads {
+			t.Fatalf("one began when there were %d goroutines", least)
+		}
+	}
 }
